@@ -1,0 +1,74 @@
+"""The interface: names, arguments, and where they are defined."""
+
+import importlib
+import inspect
+import unittest
+
+FUNCTIONS = {
+    "trees": [
+        "tree_height(tree)", "leaf_count(tree)", "leaf_paths(tree)", "is_full(tree, depth)", "filled(tree, depth)",
+        "row_of(tree, depth)", "tree_of_row(row, depth)", "all_rows(leaves, depth)",
+    ],
+    "embeddings": ["holds(big, small)", "embedding(big, small)", "is_embedding(big, small, paths)"],
+    "treetexts": ["tree_text(tree)", "read_tree(text)"],
+    "branchings": ["branching_number(tree)", "fork(tree, rows)", "is_fork(tree, paper, rows)"],
+    "sizes": ["universal_size(leaves, height, *, branching=None)", "size_bound(leaves, height, *, branching=None)"],
+    "placements": ["placement(tree, universal)", "is_placement(tree, universal, codes)"],
+    "complete": [
+        "least_missing(tree, leaves, depth)", "capacity(tree, depth)", "pruned(tree, depth, many)",
+        "lower_number(leaves, depth)", "least_complete(leaves, depth)",
+    ],
+    "gametexts": ["game_text(game)", "read_game(text)"],
+    "attractors": [
+        "attractor(game, player, goal, *, within=None)", "attractor_plan(game, player, goal, *, within=None)",
+        "is_trap(game, player, vertices, *, within=None)",
+    ],
+}
+
+CLASSES = {
+    ("universals", "UniversalTree"): [
+        "__init__(self, leaves, height, *, branching=None)", "after(self, code)", "before(self, code)",
+        "less(self, one, two)", "grown(self)", "codes(self)", "allows(self, rank, priority, other)",
+        "needed(self, rank, priority)", "kept(self, rank, priority)", "__contains__(self, value)",
+    ],
+    ("drawntrees", "DrawnTree"): [
+        "__init__(self, tree, height)", "less(self, one, two)", "allows(self, rank, priority, other)",
+        "needed(self, rank, priority)", "kept(self, rank, priority)",
+    ],
+    ("games", "Game"): [
+        "__init__(self, owners, priorities, successors)", "__len__(self)", "__eq__(self, other)", "turned(self)",
+        "restricted(self, vertices)",
+    ],
+}
+
+GENERATORS = [("trees", "all_rows")]
+
+
+def module_of(name):
+    return importlib.import_module("holdsalltrees." + name)
+
+
+class InterfaceTests(unittest.TestCase):
+    def judge(self, place, name, text):
+        function = vars(place)[text.split("(")[0]]
+        self.assertTrue(inspect.isfunction(function), text)
+        self.assertEqual(function.__module__, "holdsalltrees." + name)
+        self.assertEqual(function.__name__ + str(inspect.signature(function)), text)
+        return function
+
+    def test_functions(self):
+        for name, texts in FUNCTIONS.items():
+            for text in texts:
+                self.judge(module_of(name), name, text)
+
+    def test_classes_define_their_methods_themselves(self):
+        for (name, kind), texts in CLASSES.items():
+            found = getattr(module_of(name), kind)
+            self.assertEqual(found.__module__, "holdsalltrees." + name)
+            for text in texts:
+                self.judge(found, name, text)
+
+    def test_generators(self):
+        for name, function in GENERATORS:
+            self.assertTrue(inspect.isgeneratorfunction(getattr(module_of(name), function)))
+        self.assertTrue(inspect.isgeneratorfunction(module_of("universals").UniversalTree.codes))

@@ -1,0 +1,136 @@
+"""The rules for the code of the package, as far as a short look at the files can tell."""
+
+import ast
+import builtins
+import os
+import re
+import unittest
+
+FOLDER = os.path.join(os.path.dirname(os.path.dirname(os.path.abspath(__file__))), "holdsalltrees")
+BUILTINS = set(
+    "len range enumerate zip min max sum abs sorted reversed int str bool list tuple dict set isinstance ord repr any "
+    "all divmod ValueError TypeError KeyError IndexError NotImplemented".split()
+)
+METHODS = set(
+    "append clear copy count endswith extend find get index insert isalnum isalpha isdigit islower isspace isupper "
+    "items join keys ljust lower lstrip partition pop remove replace reverse rfind rjust rpartition rsplit rstrip "
+    "setdefault split splitlines startswith strip update upper values zfill bit_length add discard".split()
+)
+AT_THE_TOP = (ast.ImportFrom, ast.FunctionDef, ast.ClassDef, ast.Assign)
+NOT_ALLOWED = (
+    ast.GeneratorExp, ast.AnnAssign, ast.Global, ast.AsyncFunctionDef, ast.Await, ast.Div, ast.MatMult
+)
+
+
+def files():
+    for name in sorted(os.listdir(FOLDER)):
+        if name != "__pycache__":
+            with open(os.path.join(FOLDER, name), "rb") as file:
+                yield name, file.read()
+
+
+def bound_names(tree):
+    """The names that are assigned, or are parameters, with their nodes."""
+    for node in ast.walk(tree):
+        if isinstance(node, ast.Name) and isinstance(node.ctx, ast.Store):
+            yield node.id, node
+        elif isinstance(node, ast.arg):
+            yield node.arg, node
+        elif isinstance(node, ast.FunctionDef):
+            yield node.name, node
+
+
+class LanguageTests(unittest.TestCase):
+    def setUp(self):
+        self.trees = {name: ast.parse(data) for name, data in files()}
+
+    def walk(self):
+        for name, tree in self.trees.items():
+            for node in ast.walk(tree):
+                yield f"{name}:{getattr(node, 'lineno', 0)}", node
+
+    def test_files_and_lines(self):
+        for name, data in files():
+            self.assertRegex(name, r"^[a-z0-9_]+\.py$")
+            self.assertTrue(all(32 <= sign <= 126 or sign == 10 for sign in data), name)
+            lines = data.decode("ascii").split("\n")
+            self.assertLessEqual(len(lines), 399, name)
+            self.assertLessEqual(max(len(line) for line in lines), 120, name)
+
+    def test_functions_are_short_and_plain(self):
+        for place, node in self.walk():
+            if isinstance(node, ast.FunctionDef):
+                self.assertLessEqual(node.end_lineno - node.lineno + 1, 40, place)
+                self.assertEqual(node.decorator_list, [], place)
+            self.assertNotIsInstance(node, NOT_ALLOWED, place)
+            if isinstance(node, ast.Constant):
+                self.assertNotIsInstance(node.value, float, place)
+            if isinstance(node, ast.BinOp) and isinstance(node.op, ast.Pow):
+                self.assertIsInstance(node.right, ast.Constant, place)
+
+    def test_module_level(self):
+        for name, tree in self.trees.items():
+            for node in tree.body[1:]:
+                self.assertIsInstance(node, AT_THE_TOP, name)
+            self.assertIsNotNone(ast.get_docstring(tree), name)
+
+    def test_imports(self):
+        for place, node in self.walk():
+            self.assertNotIsInstance(node, ast.Import, place)
+            if isinstance(node, ast.ImportFrom):
+                names = [alias.name for alias in node.names]
+                self.assertEqual([alias.asname for alias in node.names], [None] * len(names), place)
+                if node.module == "math":
+                    self.assertEqual(names, ["comb"], place)
+                    continue
+                folder, file = node.module.split(".")
+                self.assertEqual(folder, "holdsalltrees", place)
+                defined = [item.name for item in self.trees[file + ".py"].body if hasattr(item, "name")]
+                defined += [item.targets[0].id for item in self.trees[file + ".py"].body if isinstance(item, ast.Assign)]
+                self.assertLessEqual(set(names), set(defined), place)
+
+    def test_no_imports_in_a_ring(self):
+        needs = {}
+        for name, tree in self.trees.items():
+            modules = [node.module for node in tree.body if isinstance(node, ast.ImportFrom)]
+            needs[name] = [module.split(".")[1] + ".py" for module in modules if "." in module]
+        while needs:
+            free = [name for name, others in needs.items() if not set(others) & set(needs)]
+            self.assertTrue(free, needs)
+            for name in free:
+                del needs[name]
+
+    def test_names(self):
+        for name, tree in self.trees.items():
+            taken = set()
+            for node in tree.body:
+                if isinstance(node, ast.ImportFrom):
+                    taken |= {alias.name for alias in node.names}
+                if isinstance(node, ast.ClassDef):
+                    taken.add(node.name)
+            for bound, node in bound_names(tree):
+                self.assertNotIn(bound, taken, f"{name}:{node.lineno}")
+                if not bound.startswith("__"):
+                    self.assertFalse(hasattr(builtins, bound), f"{name}:{node.lineno} {bound}")
+                self.assertRegex(bound, "^_?[A-Za-z][A-Za-z0-9_]*$|^__[a-z]+__$|^_$")
+
+    def test_calls(self):
+        own = {node.name for _, node in self.walk() if isinstance(node, ast.FunctionDef)}
+        for place, node in self.walk():
+            if isinstance(node, ast.Call) and isinstance(node.func, ast.Attribute):
+                self.assertIn(node.func.attr, METHODS | own, place)
+            if isinstance(node, ast.Name) and hasattr(builtins, node.id):
+                self.assertIn(node.id, BUILTINS, place)
+
+    def test_strings(self):
+        for place, node in self.walk():
+            if isinstance(node, ast.Constant) and isinstance(node.value, str):
+                self.assertNotIn("%", node.value, place)
+                self.assertIsNone(re.match("^__.*__$", node.value), place)
+
+    def test_equality_asks_for_the_class_first(self):
+        for place, node in self.walk():
+            if isinstance(node, ast.FunctionDef) and node.name == "__eq__":
+                first = node.body[0]
+                self.assertIsInstance(first, ast.Return, place)
+                self.assertEqual(ast.unparse(first.value.values[0].func), "isinstance", place)
