@@ -23,6 +23,31 @@ FUNCTIONS = {
         "attractor(game, player, goal, *, within=None)", "attractor_plan(game, player, goal, *, within=None)",
         "is_trap(game, player, vertices, *, within=None)",
     ],
+    "plays": [
+        "winner_of(game, lead, ring)", "duel(game, first, second, start)", "losing_play(game, player, plan, start)",
+    ],
+    "rankings": ["is_ranking(game, order, ranks)", "plan_of_ranking(game, order, ranks)"],
+    "climbing": ["climb(game, order, *, start=None)"],
+    "solving": ["winners(game)"],
+    "verdicts": ["verdict(game)"],
+    "decompositions": [
+        "vertices_of(decomposition)", "tree_of(decomposition)", "is_decomposition(game, decomposition)",
+        "plan_of(game, decomposition)",
+    ],
+    "conversions": ["ranking_of(game, decomposition)", "decomposition_of(game, tree, ranks)"],
+    "decomposing": ["decompose_by(game, tree)"],
+    "numbering": ["decompose(game, number)", "numbers(game)"],
+    "registers": [
+        "start_row(game, registers)", "raised(row, priority)", "emptied(row, which, priority)",
+        "signal(which, value)",
+    ],
+    "registerplans": [
+        "is_register_plan(game, registers, vertices, plan)", "is_register_answer(game, registers, vertices, answer)",
+    ],
+    "registergames": [
+        "register_verdict(game, registers)", "register_wins(game, vertex, row)", "fewest_registers(game)",
+    ],
+    "planmaking": ["register_plan(game, decomposition)"],
 }
 
 CLASSES = {
@@ -39,6 +64,8 @@ CLASSES = {
         "__init__(self, owners, priorities, successors)", "__len__(self)", "__eq__(self, other)", "turned(self)",
         "restricted(self, vertices)",
     ],
+    ("verdicts", "Verdict"): [],
+    ("registergames", "RegisterVerdict"): [],
 }
 
 GENERATORS = [("trees", "all_rows")]
