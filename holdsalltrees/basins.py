@@ -16,7 +16,7 @@ class Basins:
         self.shapes = shapes
         self.owners = game.owners
         self.rows = [mask_of(row) for row in game.successors]
-        vertices = range(len(game))
+        vertices = list(range(len(game)))
         # For each level, the vertices with its even priority, and those with no greater one.
         self.peaks = []
         self.lows = []

@@ -2,6 +2,7 @@
 
 from holdsalltrees.drawntrees import DrawnTree
 from holdsalltrees.rankings import check_height
+from holdsalltrees.strategies import origins_of
 from holdsalltrees.trees import tree_of_row
 from holdsalltrees.universals import UniversalTree
 from holdsalltrees.values import as_tuples
@@ -34,7 +35,7 @@ def _row_of_codes(codes, height):
 def _climbed(game, order, begin):
     # Here ranks are indexes, and the one after the last stands for no rank, which is greater than all.
     ranks = [order.size if rank is None else rank for rank in begin]
-    before = _origins(game)
+    origins = origins_of(game.successors)
     work = list(range(len(game)))
     waiting = [True] * len(game)
     while work:
@@ -43,19 +44,11 @@ def _climbed(game, order, begin):
         rank = _lifted(game, order, ranks, vertex)
         if rank > ranks[vertex]:
             ranks[vertex] = rank
-            for origin in before[vertex]:
+            for origin in origins[vertex]:
                 if not waiting[origin]:
                     waiting[origin] = True
                     work.append(origin)
     return [None if rank == order.size else rank for rank in ranks]
-
-
-def _origins(game):
-    before = [[] for _ in range(len(game))]
-    for vertex, row in enumerate(game.successors):
-        for goal in row:
-            before[goal].append(vertex)
-    return before
 
 
 def _lifted(game, order, ranks, vertex):

@@ -42,8 +42,7 @@ def _is_at_level(game, paper, level):
         return False
     if top != drawn_to(game, at_level(game, vertices, level), vertices):
         return False
-    if level == 0 and parts:
-        return False
+    # At the level 0 nothing is left for a part.
     rest = without(vertices, top)
     for part, pulled in parts:
         own = vertices_of(part)

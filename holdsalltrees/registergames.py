@@ -4,7 +4,6 @@ from holdsalltrees.numbering import numbers
 from holdsalltrees.registers import choices, start_row
 from holdsalltrees.rounds import move_node, position_node, round_graph, which_of
 from holdsalltrees.strategies import solved
-from holdsalltrees.values import as_tuples
 
 
 class RegisterVerdict:
@@ -80,7 +79,7 @@ def _answer_from(game, graph, moves, positions):
 
 def register_wins(game, vertex, row):
     """Tell whether player 0 wins the register game from the position."""
-    graph = round_graph(game, [(vertex, as_tuples(row))], None)
+    graph = round_graph(game, [(vertex, row)], None)
     return solved(graph.owners, graph.priorities, graph.rows)[0][0] == 0
 
 

@@ -38,9 +38,7 @@ def _settled_by_plan(graph, game, place, said):
     which, step = said
     priority = game.priorities[vertex]
     row = raised(row, priority)
-    if not 0 <= which <= len(row):
-        return False
-    if which > 0 and loses(row, which):
+    if not 0 <= which <= len(row) or loses(row, which):
         return False
     steps = game.successors[vertex]
     if game.owners[vertex] == 0:

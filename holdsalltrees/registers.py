@@ -38,5 +38,5 @@ def choices(row, priority):
 
 
 def loses(row, which):
-    """Tell whether player 0 loses at once by this choice with a raised row."""
+    """Tell whether player 0 loses at once by this choice (0 for none) with a raised row."""
     return which == len(row) and row[which - 1] % 2 == 1

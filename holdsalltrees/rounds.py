@@ -41,7 +41,7 @@ def settle_round(graph, game, node, answers):
     """
     vertex, row = node[1:3]
     if node[0] == POSITION:
-        found = best_choices(row, game.priorities[vertex])
+        found = choices(row, game.priorities[vertex])
         graph.settle(0, 0, [choice_node(vertex, after, told) for which, after, told in found])
     elif node[0] == CHOICE:
         graph.settle(0, node[3], [move_node(vertex, row)])
@@ -64,18 +64,3 @@ def round_graph(game, positions, answers):
             return None
         node = graph.unsettled()
     return graph
-
-
-def best_choices(row, priority):
-    """Return the choices of player 0 that may be of use: one for each row after them."""
-    found = {}
-    for choice in choices(row, priority):
-        after = choice[1]
-        if after not in found or _worth(choice[2]) > _worth(found[after][2]):
-            found[after] = choice
-    return list(found.values())
-
-
-def _worth(told):
-    # For player 0 great even signals are good, and great odd ones are bad.
-    return told if told % 2 == 0 else -told

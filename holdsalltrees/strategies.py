@@ -22,15 +22,11 @@ class Board:
     """A graph that is being solved, with the moves that have been found so far."""
 
     def __init__(self, owners, priorities, rows):
-        self.owners = tuple(owners)
-        self.priorities = tuple(priorities)
-        self.rows = tuple(rows)
-        self.origins = [[] for _ in self.rows]
-        for vertex, row in enumerate(self.rows):
-            for goal in row:
-                self.origins[goal].append(vertex)
-        present = {priority: True for priority in self.priorities}
-        self.levels = sorted(list(present))
+        self.owners = owners
+        self.priorities = priorities
+        self.rows = rows
+        self.origins = origins_of(rows)
+        self.levels = sorted(set(self.priorities))
         self.moves = [None] * len(self.rows)
 
     def parted(self, region, place):
@@ -85,9 +81,16 @@ class Board:
         """Move from each vertex of the goal to some vertex of the region."""
         inside = marks_of(region, len(self.rows))
         for vertex in goal:
-            steps = [step for step in self.rows[vertex] if inside[step]]
-            if steps:
-                self.moves[vertex] = steps[0]
+            self.moves[vertex] = [step for step in self.rows[vertex] if inside[step]][0]
+
+
+def origins_of(rows):
+    """Return for each vertex the vertices from which a move leads to it."""
+    origins = [[] for _ in rows]
+    for vertex, row in enumerate(rows):
+        for goal in row:
+            origins[goal].append(vertex)
+    return origins
 
 
 def marks_of(vertices, count):

@@ -90,12 +90,13 @@ def winners_by_plans(game):
     return tuple(answer)
 
 
-def odd_cycle_from(rows, labels, start, parity):
+def cycle_from(rows, labels, start, parity):
     """Whether a cycle with a greatest label of this parity can be reached; for larger graphs."""
-    for first in reached(rows, start):
-        if labels[first] % 2 == parity:
-            low = {v: [u for u in rows[v] if labels[u] <= labels[first]] for v in range(len(rows))}
-            if first in reached(low, low[first]):
+    found = reached(rows, start)
+    for label in {labels[v] for v in found if labels[v] % 2 == parity}:
+        low = {v: [u for u in rows[v] if labels[u] <= label] for v in found}
+        for first in found:
+            if labels[first] == label and first in reached(low, low[first]):
                 return True
     return False
 
@@ -297,7 +298,7 @@ def plan_faults(game, registers, vertices, plan):
         return True
     table = dict(plan)
     start = [(v, (game.ceiling,) * registers) for v in vertices]
-    names, rows, labels = [], [], []
+    names, rows, labels = {}, [], []
     work = list(start)
     while work:
         place = work.pop()
@@ -315,12 +316,12 @@ def plan_faults(game, registers, vertices, plan):
         if told is None:
             return True
         steps = [(u, after) for u in (game.successors[v] if step is None else [step])]
-        names.append(place)
+        names[place] = len(names)
         labels.append(told)
         rows.append(steps)
         work.extend(steps)
-    rows = [[names.index(step) for step in steps] for steps in rows]
-    return odd_cycle_from(rows, labels, [names.index(place) for place in start], 1)
+    rows = [[names[step] for step in steps] for steps in rows]
+    return cycle_from(rows, labels, [names[place] for place in start], 1)
 
 
 def answer_faults(game, registers, vertices, answer):

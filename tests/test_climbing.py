@@ -63,7 +63,8 @@ class ClimbTests(Case):
             order = UniversalTree(4, game.height)
             self.same(self.ask(climb, game, order, start=(None,) * len(game)), (None,) * len(game))
             values = ranks_of(order)
-            start = tuple(source.choice([None, order.first, order.last, source.choice(values)]) for _ in range(len(game)))
+            some = [None, order.first, order.last, source.choice(values), source.choice(values)]
+            start = tuple(source.choice(some) for _ in range(len(game)))
             best = self.ask(climb, game, order, start=start)
             self.same(is_ranking(game, order, best), True)
             for rank, first in zip(best, start):

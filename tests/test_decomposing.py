@@ -61,7 +61,7 @@ class DecomposeByTests(Judge):
         different = 0
         for _ in range(40):
             owners = [1] * 5
-            rows = [sorted({v, source.randrange(5)} if source.random() < 0.6 else {source.randrange(5)}) for v in range(5)]
+            rows = [sorted({source.choice((v, source.randrange(5))), source.randrange(5)}) for v in range(5)]
             game = Game(owners, [source.choice((0, 1, 2, 2, 3)) for _ in range(5)], rows)
             by_sets = trees_by_sets(game)
             answers = set()
@@ -117,14 +117,14 @@ class DecomposeByTests(Judge):
 
     def test_10_vertices_a_top_of_6_and_60_leaves(self):
         source = seeded("largest")
-        trees = [perfect(3, 3) + perfect(3, 3)[:2], ((((),) * 4,) * 5,) * 3, ((((),),),) * 60,
-                 (((),) * 60,), ((((),) * 60,),), UniversalTree(10, 3).grown(), UniversalTree(10, 3, branching=2).grown()]
+        trees = [perfect(3, 3) + perfect(3, 3)[:2], ((((),) * 4,) * 5,) * 3, ((((),),),) * 60, (((),) * 60,),
+                 ((((),) * 60,),), UniversalTree(10, 3).grown(), UniversalTree(10, 3, branching=2).grown()]
         for tree in trees:
             for most in (1, 2, 3, 10):
                 for _ in range(3):
                     self.judge(drawn_game(source, 10, 6, most), tree)
         ring = Game([0, 1] * 5, [5, 4, 3, 2, 1, 0, 1, 2, 3, 6], [sorted({v, (v + 1) % 10}) for v in range(10)])
-        rings = [ring, Game([1] * 10, ring.priorities, ring.successors), Game([0] * 10, ring.priorities, ring.successors)]
+        rings = [ring] + [Game([owner] * 10, ring.priorities, ring.successors) for owner in (0, 1)]
         for game in rings:
             for tree in trees:
                 self.judge(game, tree)

@@ -114,6 +114,13 @@ class NumberTests(Case):
                 self.judge(Game([owner] * 12, priorities, rows))
                 self.judge(Game([owner, 1 - owner] * 6, priorities, rows))
 
+    def test_light_parts_on_both_sides_of_a_heavy_one(self):
+        # A loop of player 1 at 0 and 2, the vertices of TWO_LOOPS from 4 on, and loops at 9 and 11.
+        rows = [[0], [0], [1, 2], [2], [4, 5], [6], [6, 7], [3, 4], [7], [8, 9], [9], [10, 11]]
+        game = Game([1] * 12, [0, 3, 0, 3, 0, 1, 0, 2, 3, 0, 3, 0], rows)
+        self.same(self.judge(game), ((0, 1),) * 2 + ((0, 2),) * 10)
+        self.same(numbers(game.turned()), ((1, 1),) * 2 + ((1, 2),) * 10)
+
     def test_a_long_line_of_loops(self):
         # All loops of player 1 in one line need only the number 2.
         for top in (1, 3, 7):

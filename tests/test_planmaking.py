@@ -140,6 +140,43 @@ class PlanMakingTests(Case):
             self.same(is_decomposition(game, paper), True)
             self.judge(game, paper)
 
+    def test_the_eldest_odd_register_is_emptied(self):
+        # Player 1 leads from 0 by 3 to 4. The part of 0 has the branching number 2, that of 4 the number 3.
+        rows = [[0, 1, 2, 3], [1], [2], [4], [4, 5, 6, 7, 8], [5], [6], [7], [8]]
+        game = Game([1] * 9, [4, 2, 2, 5, 4, 0, 0, 0, 0], rows)
+        five, six, seven, eight = [(((v,), ()), ()) for v in range(5, 9)]
+        last = ((4,), ((((), (five, six)), ()), (((), (seven, eight)), ())))
+        first = ((0,), ((((1,), ()), ()), (((2,), ()), ())))
+        paper = ((), ((last, (3,)), (first, ())))
+        self.same(is_decomposition(game, paper), True)
+        table = dict(self.judge(game, paper))
+        wanted = {
+            (0, (6, 6, 6)): 2, (0, (4, 6, 6)): 2, (0, (4, 4, 6)): 2, (3, (4, 4, 6)): 0, (4, (5, 5, 6)): 2,
+            (4, (4, 5, 6)): 2, (4, (4, 4, 6)): 3, (4, (4, 4, 4)): 3, (4, (5, 6, 6)): 1, (4, (6, 6, 6)): 3,
+            (1, (4, 6, 6)): 1, (5, (4, 5, 6)): 1, (5, (0, 4, 4)): 1,
+        }
+        for place, which in wanted.items():
+            self.same(table[place], (which, None))
+
+    def test_elder_registers_that_are_odd_are_left_alone(self):
+        # As before, but the part that comes first in a play has the branching number 3, and the last one 2.
+        rows = [[0, 1, 2, 3, 4, 5], [1], [2], [3], [4], [6], [6, 7, 8], [7], [8]]
+        game = Game([1] * 9, [4, 0, 0, 0, 0, 5, 4, 0, 0], rows)
+        one, two, three, four, seven, eight = [(((v,), ()), ()) for v in (1, 2, 3, 4, 7, 8)]
+        last = ((6,), ((((), (seven,)), ()), (((), (eight,)), ())))
+        first = ((0,), ((((), (one, two)), ()), (((), (three, four)), ())))
+        paper = ((), ((last, (5,)), (first, ())))
+        self.same(is_decomposition(game, paper), True)
+        table = dict(self.judge(game, paper))
+        wanted = {
+            (0, (6, 6, 6)): 3, (0, (4, 4, 4)): 3, (5, (4, 4, 4)): 0, (6, (5, 5, 5)): 2, (6, (4, 5, 5)): 2,
+            (6, (4, 4, 5)): 2, (7, (4, 4, 5)): 1, (7, (5, 5, 5)): 1, (7, (0, 5, 5)): 1,
+        }
+        for place, which in wanted.items():
+            if place in table:
+                self.same(table[place], (which, None))
+        self.assertIn((6, (4, 4, 5)), table)
+
     def test_values_that_are_not_decompositions(self):
         papers = [((), ((EMPTY, ()),)), ((1,), ()), ((), ((((0,), ()), ()),)), ((0, 1), ((((1,), ()), ()),))]
         for game in (LINE, MIXED, TWO_LOOPS):

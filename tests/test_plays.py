@@ -5,7 +5,7 @@ import itertools
 from holdsalltrees.errors import NotAPlay, PlanGap
 from holdsalltrees.games import Game
 from holdsalltrees.plays import duel, losing_play, winner_of
-from tests.searches import drawn_game, plays_from, reached, rows_under, subsets, wins
+from tests.searches import cycle_from, drawn_game, plays_from, reached, rows_under, subsets, wins
 from tests.support import ODD_THINGS, Case, seeded
 from tests.test_games import fields, random_game
 
@@ -254,7 +254,7 @@ class LosingPlayTests(Case):
                 play = self.ask(losing_play, game, player, plan, start)
                 rows = rows_under(game, player, plan)
                 if play is None:
-                    self.same(lost_anywhere(game, player, rows, start), False)
+                    self.same(cycle_from(rows, game.priorities, start, 1 - player), False)
                 else:
                     walk = play[0] + play[1]
                     self.assertIn(walk[0], start)
@@ -263,12 +263,3 @@ class LosingPlayTests(Case):
         ring = Game([1] * 40, [0] * 39 + [1], [[(v + 1) % 40] for v in range(40)])
         self.same(winner_of(ring, *losing_play(ring, 0, (None,) * 40, (5,))), 1)
         self.same(losing_play(ring, 1, tuple((v + 1) % 40 for v in range(40)), (5,)), None)
-
-
-def lost_anywhere(game, player, rows, start):
-    for first in reached(rows, start):
-        if game.priorities[first] % 2 != player:
-            low = [[u for u in steps if game.priorities[u] <= game.priorities[first]] for steps in rows]
-            if first in reached(low, low[first]):
-                return True
-    return False

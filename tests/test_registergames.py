@@ -154,7 +154,8 @@ class RegisterWinsTests(Case):
             game = drawn_game(source, source.randint(1, 6), source.randint(0, 6), 2)
             registers = source.randint(1, 3)
             before = fields(game)
-            row = tuple(sorted(source.choice((game.ceiling, source.randint(0, game.ceiling))) for _ in range(registers)))
+            numbers_there = [source.choice((game.ceiling, source.randint(0, game.ceiling))) for _ in range(registers)]
+            row = tuple(sorted(numbers_there))
             vertex = source.randrange(len(game))
             self.same(self.ask(register_wins, game, vertex, row), (vertex, row) in won_positions(game, [(vertex, row)]))
             self.same(fields(game), before)

@@ -124,8 +124,8 @@ class PlanTests(Judge):
         self.wrong(LOOP, 1, (0,), (strange,) + LOOP_PLAN + (((7, (9,)), (6, 3)),))
 
     def test_entries_that_do_not_matter(self):
-        strange = (((0, (0,)), (9, 9)), ((0, (1,)), (-1, None)), ((-1, (4,)), (0, 0)), ((10 ** 30, (10 ** 30,)), (0, 0)),
-                   ((1, (4,)), (1, 1)), ((0, (10 ** 20,)), (10 ** 20, -10 ** 20)), ((0, (-5,)), (1, 0)))
+        strange = (((0, (0,)), (9, 9)), ((0, (1,)), (-1, None)), ((-1, (4,)), (0, 0)), ((1, (4,)), (1, 1)),
+                   ((10 ** 30, (10 ** 30,)), (0, 0)), ((0, (10 ** 20,)), (10 ** 20, -10 ** 20)), ((0, (-5,)), (1, 0)))
         self.right(LOOP, 1, (0,), LOOP_PLAN + strange)
         self.right(LOOP, 1, (0,), strange[::-1] + LOOP_PLAN[::-1])
         self.right(LOOP, 1, (), strange)
@@ -355,35 +355,5 @@ class LargeTests(Judge):
                     work.extend((u, item[1]) for item in fine for u in steps)
                 answer = list(dict(answer).items())
                 vertices = tuple(range(10))
-                self.same(self.ask(is_register_plan, game, registers, vertices, tuple(plan)),
-                          not plan_faults_quickly(game, plan, vertices, registers))
+                self.judge_plan(game, registers, vertices, tuple(plan))
                 self.assertIn(self.ask(is_register_answer, game, registers, vertices, tuple(answer)), (True, False))
-
-
-def plan_faults_quickly(game, plan, vertices, registers):
-    table = dict(plan)
-    names = {place: index for index, (place, _) in enumerate(plan)}
-    rows, labels = [], []
-    for (v, row), (which, step) in plan:
-        _, after, told = options(game, v, row)[which]
-        rows.append([names[(u, after)] for u in (game.successors[v] if step is None else (step,))])
-        labels.append(told)
-    reachable, work = set(), [names[(v, (game.ceiling,) * registers)] for v in vertices]
-    while work:
-        node = work.pop()
-        if node not in reachable:
-            reachable.add(node)
-            work.extend(rows[node])
-    for label in sorted({labels[node] for node in reachable if labels[node] % 2 == 1}):
-        inside = {node for node in reachable if labels[node] <= label}
-        for first in sorted(node for node in inside if labels[node] == label):
-            found, work = set(), list(rows[first])
-            while work:
-                node = work.pop()
-                if node in inside and node not in found:
-                    found.add(node)
-                    work.extend(rows[node])
-            if first in found:
-                return True
-    assert table
-    return False

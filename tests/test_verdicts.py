@@ -68,7 +68,8 @@ class VerdictTests(Case):
         self.judge(TWO_LOOPS.turned())
 
     def test_rankings_that_have_to_climb_through_the_whole_tree(self):
-        for priorities in ([7] + [0, 1, 3, 5] * 2 + [7, 7, 7], [8, 7, 6, 5, 4, 3, 2, 1, 0, 1, 2, 3], [7] * 12, [8] * 12):
+        falling = [8, 7, 6, 5, 4, 3, 2, 1, 0, 1, 2, 3]
+        for priorities in ([7] + [0, 1, 3, 5] * 2 + [7, 7, 7], falling, [7] * 12, [8] * 12):
             for owner in (0, 1):
                 self.judge(Game([owner] * 12, priorities, [[(v + 1) % 12] for v in range(12)]))
                 self.judge(Game([owner] * 12, priorities, [sorted({max(v - 1, 0), (v + 1) % 12}) for v in range(12)]))
