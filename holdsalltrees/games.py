@@ -1,7 +1,7 @@
 """Parity games."""
 
 from holdsalltrees.errors import BadVertex, DeadEnd
-from holdsalltrees.values import as_tuples, is_whole
+from holdsalltrees.values import as_tuples, is_number_to, is_whole
 
 GREATEST_PRIORITY = 30
 
@@ -53,11 +53,6 @@ class Game:
         owners = [self.owners[vertex] for vertex in vertices]
         priorities = [self.priorities[vertex] for vertex in vertices]
         return Game(owners, priorities, rows)
-
-
-def is_number_to(value, most):
-    """Tell whether the value, of any kind, is a whole number from 0 to `most`."""
-    return is_whole(value) and 0 <= value <= most
 
 
 def are_successors(value, count):

@@ -13,6 +13,11 @@ def is_whole(value):
     return isinstance(value, int) and not isinstance(value, bool)
 
 
+def is_number_to(value, most):
+    """Tell whether the value, of any kind, is a whole number from 0 to `most`."""
+    return is_whole(value) and 0 <= value <= most
+
+
 def log2(number):
     """Return the greatest whole number e with 2 ** e <= number."""
     return number.bit_length() - 1

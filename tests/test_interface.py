@@ -48,6 +48,12 @@ FUNCTIONS = {
         "register_verdict(game, registers)", "register_wins(game, vertex, row)", "fewest_registers(game)",
     ],
     "planmaking": ["register_plan(game, decomposition)"],
+    "watchers": ["watcher_of(tree, height, priorities)"],
+    "faults": ["watcher_fault(watcher, vertices)", "kept_vertices(game, watcher)"],
+    "watchertrees": ["watcher_tree(watcher)"],
+    "objectivetexts": ["read_objective(text)", "objective_text(objective)"],
+    "splittrees": ["split_tree(objective, colours)"],
+    "automata": ["automaton_of(objective, colours)"],
 }
 
 CLASSES = {
@@ -66,6 +72,15 @@ CLASSES = {
     ],
     ("verdicts", "Verdict"): [],
     ("registergames", "RegisterVerdict"): [],
+    ("watchers", "Watcher"): [
+        "__init__(self, priorities, rows, *, start=0)", "__call__(self, sequence, state=None)",
+    ],
+    ("faults", "Fault"): [],
+    ("objectives", "Objective"): [
+        "inf(cls, colour)", "always(cls)", "never(cls)", "__and__(self, other)", "__or__(self, other)",
+        "__invert__(self)", "__eq__(self, other)", "good(self, colours)",
+    ],
+    ("automata", "Automaton"): ["__init__(self, colours, rows, *, start=0)"],
 }
 
 GENERATORS = [("trees", "all_rows")]
@@ -78,6 +93,9 @@ def module_of(name):
 class InterfaceTests(unittest.TestCase):
     def judge(self, place, name, text):
         function = vars(place)[text.split("(")[0]]
+        if isinstance(function, classmethod):
+            self.assertIn("(cls", text)
+            function = function.__func__
         self.assertTrue(inspect.isfunction(function), text)
         self.assertEqual(function.__module__, "holdsalltrees." + name)
         self.assertEqual(function.__name__ + str(inspect.signature(function)), text)

@@ -9,13 +9,15 @@ import unittest
 FOLDER = os.path.join(os.path.dirname(os.path.dirname(os.path.abspath(__file__))), "holdsalltrees")
 BUILTINS = set(
     "len range enumerate zip min max sum abs sorted reversed int str bool list tuple dict set isinstance ord repr any "
-    "all divmod ValueError TypeError KeyError IndexError NotImplemented".split()
+    "all divmod property classmethod ValueError TypeError KeyError IndexError NotImplemented".split()
 )
 METHODS = set(
     "append clear copy count endswith extend find get index insert isalnum isalpha isdigit islower isspace isupper "
     "items join keys ljust lower lstrip partition pop remove replace reverse rfind rjust rpartition rsplit rstrip "
     "setdefault split splitlines startswith strip update upper values zfill bit_length add discard".split()
 )
+CHANGING = ("append", "clear", "extend", "insert", "pop", "remove", "reverse", "setdefault", "update", "add", "discard")
+BARRED = ("mro", "elements", "open", "input", "law", "register", "type", "id", "help", "eval", "exec", "vars", "dir")
 AT_THE_TOP = (ast.ImportFrom, ast.FunctionDef, ast.ClassDef, ast.Assign)
 NOT_ALLOWED = (
     ast.GeneratorExp, ast.AnnAssign, ast.Global, ast.AsyncFunctionDef, ast.Await, ast.Div, ast.MatMult
@@ -61,7 +63,8 @@ class LanguageTests(unittest.TestCase):
         for place, node in self.walk():
             if isinstance(node, ast.FunctionDef):
                 self.assertLessEqual(node.end_lineno - node.lineno + 1, 40, place)
-                self.assertEqual(node.decorator_list, [], place)
+                names = [decorator.id for decorator in node.decorator_list]
+                self.assertIn(names, ([], ["property"], ["classmethod"]), place)
             self.assertNotIsInstance(node, NOT_ALLOWED, place)
             if isinstance(node, ast.Constant):
                 self.assertNotIsInstance(node.value, float, place)
@@ -134,3 +137,21 @@ class LanguageTests(unittest.TestCase):
                 first = node.body[0]
                 self.assertIsInstance(first, ast.Return, place)
                 self.assertEqual(ast.unparse(first.value.values[0].func), "isinstance", place)
+
+    def test_words_that_bind_no_more_names(self):
+        for place, node in self.walk():
+            if isinstance(node, (ast.Assign, ast.For, ast.comprehension)):
+                for name in ast.walk(node):
+                    if isinstance(name, ast.Name) and isinstance(name.ctx, ast.Store):
+                        self.assertNotIn(name.id, BARRED, place)
+
+    def test_nothing_changes_what_it_iterates_over(self):
+        for place, node in self.walk():
+            if not isinstance(node, ast.For):
+                continue
+            over = {name.id for name in ast.walk(node.iter) if isinstance(name, ast.Name)}
+            for inner in node.body:
+                for call in ast.walk(inner):
+                    if isinstance(call, ast.Call) and isinstance(call.func, ast.Attribute):
+                        if call.func.attr in CHANGING and isinstance(call.func.value, ast.Name):
+                            self.assertNotIn(call.func.value.id, over, place)
