@@ -7,16 +7,22 @@ from holdsalltrees.strategies import solved
 def winner_of(game, lead, ring):
     """Return the player who wins the play."""
     walk = tuple(lead) + tuple(ring)
-    steps = walk[1:] + tuple(ring)[:1]
-    for index, vertex in enumerate(walk):
-        if not 0 <= vertex < len(game):
-            raise NotAPlay(index)
-        # Only the last vertex of a lead without a ring has no next one.
-        if index < len(steps) and steps[index] not in game.successors[vertex]:
-            raise NotAPlay(index)
+    check_walk(game, walk, walk[1:] + tuple(ring)[:1])
     if not ring:
         raise NotAPlay(len(walk))
     return max([game.priorities[vertex] for vertex in ring]) % 2
+
+
+def check_walk(game, walk, steps):
+    """Raise an error at the first number of a walk that is not a vertex, or from which no move leads to its step.
+
+    The last number may have no step.
+    """
+    for index, vertex in enumerate(walk):
+        if not 0 <= vertex < len(game):
+            raise NotAPlay(index)
+        if index < len(steps) and steps[index] not in game.successors[vertex]:
+            raise NotAPlay(index)
 
 
 def duel(game, first, second, start):

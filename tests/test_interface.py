@@ -54,6 +54,17 @@ FUNCTIONS = {
     "objectivetexts": ["read_objective(text)", "objective_text(objective)"],
     "splittrees": ["split_tree(objective, colours)"],
     "automata": ["automaton_of(objective, colours)"],
+    "automatonfaults": ["automaton_fault(automaton, objective)", "separate_states(automaton, objective)"],
+    "arenas": [
+        "objective_game(arena, objective)", "arena_winners(arena, objective)", "arena_plan(arena, objective, player)",
+    ],
+    "programs": [
+        "read_program(text)", "possible(program, state)", "owner_of(program, state)", "colour_of(program, state)",
+    ],
+    "explorations": ["explore(program, *, limit)"],
+    "deeds": ["after_deed(game, deed)", "favours(game, deed)"],
+    "benches": ["favoured(bench)", "perform_all(bench, script)", "in_trial(trial, items)"],
+    "matches": ["replay(game, log)"],
 }
 
 CLASSES = {
@@ -81,6 +92,18 @@ CLASSES = {
         "__invert__(self)", "__eq__(self, other)", "good(self, colours)",
     ],
     ("automata", "Automaton"): ["__init__(self, colours, rows, *, start=0)"],
+    ("arenas", "Arena"): ["__init__(self, owners, colours, successors)", "__len__(self)"],
+    ("arenas", "ObjectiveGame"): [],
+    ("programs", "Program"): [],
+    ("explorations", "Exploration"): [],
+    ("benches", "Bench"): [
+        "__init__(self, game)", "__len__(self)", "__iter__(self)", "perform(self, deed)", "undo(self)",
+        "verdict(self)", "numbers(self)",
+    ],
+    ("benches", "Trial"): ["__init__(self, bench)", "__enter__(self)", "__exit__(self, kind, value, trace)"],
+    ("matches", "Match"): [
+        "__init__(self, game, start, *, player)", "answer(self)", "go(self, successor)", "promise(self)",
+    ],
 }
 
 GENERATORS = [("trees", "all_rows")]

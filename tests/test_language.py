@@ -9,7 +9,7 @@ import unittest
 FOLDER = os.path.join(os.path.dirname(os.path.dirname(os.path.abspath(__file__))), "holdsalltrees")
 BUILTINS = set(
     "len range enumerate zip min max sum abs sorted reversed int str bool list tuple dict set isinstance ord repr any "
-    "all divmod property classmethod ValueError TypeError KeyError IndexError NotImplemented".split()
+    "all divmod iter property classmethod ValueError TypeError KeyError IndexError NotImplemented".split()
 )
 METHODS = set(
     "append clear copy count endswith extend find get index insert isalnum isalpha isdigit islower isspace isupper "
@@ -32,13 +32,14 @@ def files():
 
 
 def bound_names(tree):
-    """The names that are assigned, or are parameters, with their nodes."""
+    """The names that are assigned, or are parameters or functions that are no methods, with their nodes."""
+    methods = [part for node in ast.walk(tree) if isinstance(node, ast.ClassDef) for part in node.body]
     for node in ast.walk(tree):
         if isinstance(node, ast.Name) and isinstance(node.ctx, ast.Store):
             yield node.id, node
         elif isinstance(node, ast.arg):
             yield node.arg, node
-        elif isinstance(node, ast.FunctionDef):
+        elif isinstance(node, ast.FunctionDef) and node not in methods:
             yield node.name, node
 
 
