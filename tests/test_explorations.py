@@ -54,7 +54,7 @@ class ExplorationTests(Case):
                     text += f"move s{'abc'[place]} when true do {name} = {name} - 1\n"
             sizes.add(self.judge(text, source.choice((100, 100, 7))))
         self.assertTrue({None, 1, 2, 3, 4} <= sizes, sizes)
-        self.assertGreater(max(size for size in sizes if size), 50)
+        self.assertGreater(max(size for size in sizes if size), 30)
 
     def test_the_limit(self):
         for last in (0, 1, 5, 98, 99):
