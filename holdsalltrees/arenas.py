@@ -4,7 +4,7 @@ from holdsalltrees.automata import automaton_of
 from holdsalltrees.errors import BadVertex
 from holdsalltrees.games import Game, are_successors
 from holdsalltrees.objectives import is_colour
-from holdsalltrees.strategies import solved
+from holdsalltrees.strategies import solved_game
 from holdsalltrees.values import as_tuples, is_number_to
 
 
@@ -69,12 +69,8 @@ def arena_winners(arena, objective):
     if len(arena) == 0:
         return ()
     product = objective_game(arena, objective)
-    winners = _solved_game(product.game)[0]
+    winners = solved_game(product.game)[0]
     return tuple([winners[start] for start in product.starts])
-
-
-def _solved_game(game):
-    return solved(game.owners, game.priorities, game.successors)
 
 
 def arena_plan(arena, objective, player):
@@ -82,7 +78,7 @@ def arena_plan(arena, objective, player):
     if len(arena) == 0:
         return ()
     product = objective_game(arena, objective)
-    winners, moves = _solved_game(product.game)
+    winners, moves = solved_game(product.game)
     entries = []
     for number, state in enumerate(product.states):
         if winners[number] == player and product.game.owners[number] == player:

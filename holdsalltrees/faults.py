@@ -26,7 +26,8 @@ def watcher_fault(watcher, vertices):
         return Fault("lets", lost[0], lost[1], None, ())
     height = watcher.priorities // 2
     # What a tree with fewer leaves shows, some tree with all of them shows, too.
-    for row in all_rows(1 if height == 0 else vertices, height):
+    leaves = 1 if height == 0 else vertices
+    for row in all_rows(leaves, height):
         tree = tree_of_row(row, height)
         walk = _stopped_walk(watcher, DrawnTree(tree, height))
         if walk is not None:

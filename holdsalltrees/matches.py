@@ -2,7 +2,7 @@
 
 from holdsalltrees.errors import NoSuchMove, NotYourMove
 from holdsalltrees.plays import check_walk
-from holdsalltrees.strategies import solved
+from holdsalltrees.strategies import solved_game
 
 
 class Match:
@@ -11,7 +11,7 @@ class Match:
     def __init__(self, game, start, *, player):
         self._game = game
         self._player = player
-        self._winners, self._moves = solved(game.owners, game.priorities, game.successors)
+        self._winners, self._moves = solved_game(game)
         self.vertex = start
         self.log = (start,)
         self.to_move = game.owners[start]

@@ -1,8 +1,8 @@
 """The winner of each vertex of a game."""
 
-from holdsalltrees.strategies import solved
+from holdsalltrees.strategies import solved_game
 
 
 def winners(game):
     """Return the player who wins from each vertex."""
-    return solved(game.owners, game.priorities, game.successors)[0]
+    return solved_game(game)[0]

@@ -18,6 +18,11 @@ def solved(owners, priorities, rows):
     return (tuple(winners), tuple(moves))
 
 
+def solved_game(game):
+    """Return the winners of a game, and for each vertex whose owner wins a winning move (None for the others)."""
+    return solved(game.owners, game.priorities, game.successors)
+
+
 class Board:
     """A graph that is being solved, with the moves that have been found so far."""
 

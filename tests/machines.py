@@ -132,22 +132,24 @@ def lets_lost(watcher):
 
 def stopped_walk_in(watcher, tree):
     """Whether the watcher stops some walk in the net of the tree: all leaves, all edges."""
-    net = net_of(tree, watcher.priorities // 2)
-    steps = {}
-    for x, p, y in net:
-        steps.setdefault(x, []).append((p, y))
-    work = [(x, watcher.start) for x in range(len(leaves_of(tree)))]
+    edges = [edge for edge in net_of(tree, watcher.priorities // 2) if edge[1] < watcher.priorities]
+    return stops_on(watcher, edges, len(leaves_of(tree)))
+
+
+def stops_on(watcher, edges, vertices):
+    """Whether the watcher stops some walk on these edges; each of their ends has a next edge."""
+    steps = {x: [(p, y) for v, p, y in edges if v == x] for x in range(vertices)}
+    work = [(x, watcher.start) for x in range(vertices)]
     found = set(work)
     while work:
         x, state = work.pop()
         for p, y in steps[x]:
-            if p < watcher.priorities:
-                goal = watcher.rows[state][p]
-                if goal is None:
-                    return True
-                if (y, goal) not in found:
-                    found.add((y, goal))
-                    work.append((y, goal))
+            goal = watcher.rows[state][p]
+            if goal is None:
+                return True
+            if (y, goal) not in found:
+                found.add((y, goal))
+                work.append((y, goal))
     return False
 
 
@@ -193,21 +195,8 @@ def is_even(edges):
 
 def stops_in_graphs(watcher, vertices):
     """Whether the watcher stops an endless sequence on a path in an even graph: by the words of point 56."""
-    for graph in even_graphs(vertices, watcher.priorities):
-        work = [(x, watcher.start) for x in range(vertices)]
-        found = set(work)
-        while work:
-            x, state = work.pop()
-            for v, p, y in graph:
-                if v == x:
-                    goal = watcher.rows[state][p]
-                    # In a graph to which no edge can be added every path goes on for ever.
-                    if goal is None:
-                        return True
-                    if (y, goal) not in found:
-                        found.add((y, goal))
-                        work.append((y, goal))
-    return False
+    # In a graph to which no edge can be added every path goes on for ever.
+    return any(stops_on(watcher, graph, vertices) for graph in even_graphs(vertices, watcher.priorities))
 
 
 def right_watcher(leaves, height, priorities):

@@ -285,6 +285,16 @@ class SeparateTests(Case):
         self.same(separate_of("ab", rows, 0, both), (1, 2))
         self.refuses(WrongAutomaton(), separate_of, "ab", rows, 0, ~both)
 
+    def test_priorities_up_to_20(self):
+        for priority in range(20):
+            # Good and bad rings, with the greatest priorities that there are.
+            rows = (((0, priority), (1, priority + 1)), ((0, priority + 1), (1, priority)))
+            both = Objective.inf("a") & Objective.inf("b")
+            objective = both if priority % 2 else ~both
+            self.assertIsNotNone(self.judge(Automaton("ab", rows), objective))
+            self.same(separate_of("ab", rows, 1, objective), (0, 1))
+            self.assertIsNone(self.judge(Automaton("ab", rows), ~objective))
+
     def test_12_states_and_4_colours(self):
         source = seeded("large separate states")
         for objective in large_objectives(source):
