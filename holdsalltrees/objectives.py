@@ -1,6 +1,7 @@
 """Colours, and objectives that say which sets of colours are good."""
 
-COLOURS = "abcde"
+# A colour set is written as a number, the sum of the bits of its colours.
+COLOUR_BITS = {"a": 1, "b": 2, "c": 4, "d": 8, "e": 16}
 # An objective is written as a table, a number with one bit for each colour set: it is 1 if the set is good.
 SET_COUNT = 32
 FULL_TABLE = 4294967295
@@ -46,12 +47,12 @@ class Objective:
     @property
     def essential(self):
         """The set of the colours on which the objective depends."""
-        return "".join([colour for colour in COLOURS if _depends(self.table, colour)])
+        return "".join([colour for colour in COLOUR_BITS if _depends(self.table, colour)])
 
 
 def is_colour(word):
     """Tell whether the string is a colour."""
-    return len(word) == 1 and word in COLOURS
+    return word in COLOUR_BITS
 
 
 def inf_table(colour):
@@ -61,8 +62,8 @@ def inf_table(colour):
 
 
 def _place_of(colours):
-    # The number of a colour set has one bit for each colour.
-    return sum([1 << COLOURS.index(colour) for colour in colours])
+    # The number of a colour set is the place of its bit in the tables.
+    return sum([COLOUR_BITS[colour] for colour in colours])
 
 
 def _depends(table, colour):

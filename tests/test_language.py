@@ -6,6 +6,8 @@ import os
 import re
 import unittest
 
+from tests.running import run_by_operators, stored_calls
+
 FOLDER = os.path.join(os.path.dirname(os.path.dirname(os.path.abspath(__file__))), "holdsalltrees")
 BUILTINS = set(
     "len range enumerate zip min max sum abs sorted reversed int str bool list tuple dict set isinstance ord repr any "
@@ -156,3 +158,94 @@ class LanguageTests(unittest.TestCase):
                     if isinstance(call, ast.Call) and isinstance(call.func, ast.Attribute):
                         if call.func.attr in CHANGING and isinstance(call.func.value, ast.Name):
                             self.assertNotIn(call.func.value.id, over, place)
+
+    def test_operators_and_properties_call_nothing_with_the_name_of_an_attribute(self):
+        self.assertEqual(stored_calls(self.trees), [])
+
+    def test_what_operators_and_properties_run(self):
+        run = {(name, getattr(node, "name", "")) for name, node in run_by_operators(self.trees)}
+        for name, words in (
+            ("objectives.py", ["essential", "_depends", "inf_table", "_place_of", "__and__", "__init__", "__eq__"]),
+            ("halvings.py", ["is_code", "parts_at", "parts_of_node", "parts_of_row", "plain_node"]),
+            ("universals.py", ["__contains__"]),
+            ("games.py", ["__len__", "__eq__"]),
+        ):
+            self.assertLessEqual({(name, word) for word in words}, run)
+        self.assertNotIn(("plays.py", "replay"), run)
+
+
+ERRORS = """
+class BadRow(ValueError):
+    def __init__(self, index):
+        self.index = index
+"""
+# The call in row 6 is what the tests look for, from other files by way of `place`.
+PLACES = """
+LETTERS = "abcde"
+
+
+def place_of(letter):
+    return LETTERS.index(letter)
+
+
+def place(letter):
+    return place_of(letter)
+
+
+WAYS = {"near": place}
+"""
+
+
+class RunningTests(unittest.TestCase):
+    """The look at what properties and operators run, at small packages."""
+
+    def found(self, text, errors=ERRORS):
+        sources = {"errors.py": errors, "places.py": PLACES, "boxes.py": text}
+        return stored_calls({name: ast.parse(source) for name, source in sources.items()})
+
+    def assert_found(self, text):
+        self.assertEqual(self.found(text), [("places.py", 6, "index")], text)
+        # There is nothing to be found if no class has an attribute of that name.
+        self.assertEqual(self.found(text, ""), [], text)
+
+    def test_calls_of_the_method_itself(self):
+        for head in ("@property\n    def low(self)", "def __and__(self, other)", "def __len__(self)"):
+            text = f"class Box:\n    {head}:\n        return self.rows.index(1)\n"
+            line = text[: text.index("return")].count("\n") + 1
+            self.assertEqual(self.found(text), [("boxes.py", line, "index")], text)
+            self.assertEqual(self.found(text, ""), [], text)
+
+    def test_calls_behind_other_calls(self):
+        begin = "from pack.places import WAYS, place\n\n\nclass Box:\n"
+        for body in (
+            "    @property\n    def low(self):\n        return place(self.letter)\n",
+            "    def __eq__(self, other):\n        return isinstance(other, Box) and place('a') == 0\n",
+            "    def __contains__(self, x):\n        return any([place(y) == x for y in 'ab'])\n",
+            "    def __str__(self):\n        return f'{max([1], key=lambda x: place(x))}'\n",
+            "    def __neg__(self):\n        way = WAYS['near']\n        return way('a')\n",
+            "    def __abs__(self):\n        return self.low()\n\n    def low(self):\n        return place('a')\n",
+            "    def __init__(self):\n        self.low = place('a')\n\n    def __pos__(self):\n        return Box()\n",
+            "    def __invert__(self):\n        return Box.made()\n\n    def __init__(self):\n        place('a')\n\n"
+            "    @classmethod\n    def made(cls):\n        return cls()\n",
+            "    @property\n    def low(self):\n        return Lid()\n\n\nclass Cap:\n    def __init__(self):\n"
+            "        place('a')\n\n\nclass Lid(Cap):\n    def told(self):\n        return 1\n",
+        ):
+            self.assert_found(begin + body)
+
+    def test_calls_in_other_methods_do_not_count(self):
+        begin = "from pack.places import place\n\n\nclass Box:\n"
+        for head in ("low(self)", "__init__(self)", "__call__(self)", "__enter__(self)", "__iter__(self)"):
+            text = begin + f"    def {head}:\n        place('a')\n\n    def __len__(self):\n        return 0\n"
+            self.assertEqual(self.found(text), [], text)
+
+    def test_attributes_of_all_kinds(self):
+        text = "class Box:\n    def __len__(self):\n        return len(self.rows.index(1))\n"
+        for body in (
+            "    index = 0\n",
+            "    def go(self, box):\n        box.index = 1\n",
+            "    def go(self):\n        self.row, self.index = 1, 2\n",
+            "    def go(self):\n        self.index += 1\n",
+            "    def go(self):\n        for self.index in (1, 2):\n            pass\n",
+        ):
+            self.assertEqual(self.found(text, "class Row:\n" + body), [("boxes.py", 3, "index")], body)
+        self.assertEqual(self.found(text, "index = 1\n\n\ndef go(row):\n    return row.index\n"), [])
